@@ -1,0 +1,1 @@
+"""Joinedheaps: neighbouring heaps joined in the cheapest order."""

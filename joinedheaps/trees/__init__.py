@@ -1,0 +1,1 @@
+"""Heaps as texts, and trees of joined heaps."""

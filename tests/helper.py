@@ -1,0 +1,146 @@
+"""Trees, things that are no trees, and slow answers straight from the document's words."""
+
+import contextlib
+import random
+import signal
+
+GREATEST = 10 ** 12 - 1
+
+
+@contextlib.contextmanager
+def at_once(seconds=20):
+    """Fails what does not end, instead of waiting for it."""
+    def too_long(number, frame):
+        raise AssertionError(f"not answered within {seconds} seconds")
+
+    before = signal.signal(signal.SIGALRM, too_long)
+    signal.alarm(seconds)
+    try:
+        yield
+    finally:
+        signal.alarm(0)
+        signal.signal(signal.SIGALRM, before)
+
+
+def all_trees(first, last):
+    if first == last:
+        return [first]
+    return [(left, right)
+            for cut in range(first, last)
+            for left in all_trees(first, cut)
+            for right in all_trees(cut + 1, last)]
+
+
+def left_chain(many):
+    tree = 0
+    for place in range(1, many):
+        tree = (tree, place)
+    return tree
+
+
+def right_chain(many):
+    tree = many - 1
+    for place in reversed(range(many - 1)):
+        tree = (place, tree)
+    return tree
+
+
+def halves(first, last):
+    if first == last:
+        return first
+    cut = (first + last) // 2
+    return halves(first, cut), halves(cut + 1, last)
+
+
+def chance_tree(chance, first, last):
+    if first == last:
+        return first
+    cut = chance.randrange(first, last)
+    return chance_tree(chance, first, cut), chance_tree(chance, cut + 1, last)
+
+
+def sample_trees(many):
+    chance = random.Random(many)
+    return [left_chain(many), right_chain(many), halves(0, many - 1)] + [
+        chance_tree(chance, 0, many - 1) for again in range(5)]
+
+
+def sample_heaps(many):
+    chance = random.Random(1000 + many)
+    return [(0,) * many, (1,) * many, (GREATEST,) * many,
+            tuple(range(many)), tuple(range(many, 0, -1)),
+            tuple(chance.randrange(10 ** 12) for heap in range(many)),
+            tuple(chance.choice((0, 1, 2, GREATEST - 1, GREATEST)) for heap in range(many))]
+
+
+def places_in(tree):
+    if isinstance(tree, tuple):
+        return places_in(tree[0]) + places_in(tree[1])
+    return [tree]
+
+
+def pairs_in(tree):
+    if isinstance(tree, tuple):
+        return [tree] + pairs_in(tree[0]) + pairs_in(tree[1])
+    return []
+
+
+def slow_cost(heaps, tree):
+    return sum(heaps[place] for pair in pairs_in(tree) for place in places_in(pair))
+
+
+def slow_depths(heaps, tree):
+    return tuple(sum(place in places_in(pair) for pair in pairs_in(tree))
+                 for place in range(len(heaps)))
+
+
+def parts_changed(tree, change):
+    """Each thing that comes of the tree when one of its parts is changed."""
+    changed = [change(tree)]
+    if isinstance(tree, tuple):
+        left, right = tree
+        changed += [(other, right) for other in parts_changed(left, change)]
+        changed += [(left, other) for other in parts_changed(right, change)]
+    return changed
+
+
+def places_changed(tree, change):
+    """Each thing that comes of the tree when one of its places is changed."""
+    if isinstance(tree, tuple):
+        left, right = tree
+        return ([(other, right) for other in places_changed(left, change)]
+                + [(left, other) for other in places_changed(right, change)])
+    return [change(tree)]
+
+
+def nested(many, thing=()):
+    for again in range(many):
+        thing = (thing,)
+    return thing
+
+
+def no_trees(many):
+    """By their kinds: things that are no tree of so many heaps."""
+    kinds = {
+        "too many": sample_trees(many + 1),
+        "too few": sample_trees(many - 1) if many > 1 else [],
+        "not from 0 on": [halves(1, many), halves(-1, many - 2)],
+        "nested deep": [(), nested(59), nested(60, 0), nested(60)],
+        "nothing": [], "one": [], "three": [], "twice": [], "below 0": [], "too great": [],
+        "out of order": [],
+    }
+    for tree in sample_trees(many):
+        kinds["nothing"] += parts_changed(tree, lambda part: ())
+        kinds["one"] += parts_changed(tree, lambda part: (part,))
+        kinds["three"] += parts_changed(tree, lambda part: (part, many, many + 1))
+        kinds["three"] += parts_changed(tree, lambda part: (part, (), ()))
+        kinds["twice"] += parts_changed(tree, lambda part: (part, part))
+        kinds["below 0"] += places_changed(tree, lambda place: place - many)
+        kinds["below 0"] += places_changed(tree, lambda place: -1 - place)
+        kinds["too great"] += places_changed(tree, lambda place: place + many)
+        kinds["too great"] += places_changed(tree, lambda place: 10 ** 30)
+        if many > 1:
+            kinds["twice"] += places_changed(tree, lambda place: place - 1 if place else 1)
+            kinds["out of order"] += parts_changed(
+                tree, lambda part: part[::-1] if isinstance(part, tuple) else part + 1)
+    return kinds
