@@ -1,6 +1,8 @@
 """Trees, things that are no trees, and slow answers straight from the document's words."""
 
 import contextlib
+import functools
+import itertools
 import random
 import signal
 
@@ -144,3 +146,106 @@ def no_trees(many):
             kinds["out of order"] += parts_changed(
                 tree, lambda part: part[::-1] if isinstance(part, tuple) else part + 1)
     return kinds
+
+
+def heaps_of_kinds(many):
+    """By their kinds: heaps with every sort of weights."""
+    chance = random.Random(2000 + many)
+    doubled = tuple(2 ** place for place in range(many))
+    small = [tuple(chance.randrange(most) for heap in range(many)) for most in (2, 3, 4, 10)]
+    great = [tuple(GREATEST if heap == place else chance.randrange(3) for heap in range(many))
+             for place in sorted({0, many // 2, many - 1})]
+    return {
+        "small": small,
+        "any": [tuple(chance.randrange(10 ** 12) for heap in range(many)) for again in range(3)],
+        "alike": [(1,) * many, (7,) * many, (GREATEST,) * many],
+        "noughts": [(0,) * many, tuple(place % 2 for place in range(many)), (0,) * (many - 1) + (1,)],
+        "doubled": [doubled, doubled[::-1]],
+        "rising": [tuple(range(many)), tuple(range(1, many + 1)), tuple(range(many, 0, -1))],
+        "one great": great,
+        "next to 10 ** 12": [tuple(GREATEST - chance.randrange(3) for heap in range(many)) for again in range(2)],
+        "samples": sample_heaps(many),
+    }
+
+
+def many_heaps(many):
+    return [heaps for kind in heaps_of_kinds(many).values() for heaps in kind]
+
+
+@functools.lru_cache(maxsize=None)
+def trees_with_depths(many):
+    """All trees of so many heaps, each behind its depths, in the order of these."""
+    heaps = (1,) * many
+    return tuple(sorted(((slow_depths(heaps, tree), tree) for tree in all_trees(0, many - 1)),
+                        key=lambda pair: pair[0]))
+
+
+@functools.lru_cache(maxsize=None)
+def costs_one_by_one(heaps):
+    """The costs of all trees, in the order of their depths."""
+    return tuple(slow_cost(heaps, tree) for depths, tree in trees_with_depths(len(heaps)))
+
+
+def slow_least(heaps):
+    return min(costs_one_by_one(heaps))
+
+
+def slow_cheapest(heaps):
+    """All cheapest trees, in the order of their depths."""
+    costs = costs_one_by_one(heaps)
+    return [tree for cost, (depths, tree) in zip(costs, trees_with_depths(len(heaps))) if cost == min(costs)]
+
+
+@functools.lru_cache(maxsize=None)
+def cost_by_steps(heaps):
+    """The least cost by quite another way, that of promise 15: good for many heaps, too."""
+    row, cost = list(heaps), 0
+    while len(row) > 1:
+        k = 1
+        while k < len(row) - 1 and row[k - 1] > row[k + 1]:
+            k += 1
+        together = row[k - 1] + row[k]
+        cost += together
+        del row[k - 1:k + 1]
+        place = k - 1
+        while place > 0 and row[place - 1] < together:
+            place -= 1
+        row.insert(place, together)
+    return cost
+
+
+def stretch_cost(heaps, first, last):
+    return cost_by_steps(heaps[first:last + 1])
+
+
+def table_by_steps(heaps):
+    many = len(heaps)
+    return tuple(tuple(stretch_cost(heaps, first, last) for last in range(first, many)) for first in range(many))
+
+
+def cheapest_down(heaps, first, last):
+    """All cheapest trees of a stretch, from the root down, in any order: for many heaps with few such trees."""
+    if first == last:
+        return [first]
+    least = stretch_cost(heaps, first, last) - sum(heaps[first:last + 1])
+    return [(left, right)
+            for cut in range(first, last)
+            if stretch_cost(heaps, first, cut) + stretch_cost(heaps, cut + 1, last) == least
+            for left in cheapest_down(heaps, first, cut)
+            for right in cheapest_down(heaps, cut + 1, last)]
+
+
+def depths_down(tree, depth=0):
+    if isinstance(tree, tuple):
+        return depths_down(tree[0], depth + 1) + depths_down(tree[1], depth + 1)
+    return (depth,)
+
+
+def alike_depths(many):
+    """In order the depths of all cheapest trees of heaps that weigh alike, but not nought: a full level of places,
+    some of which are parted once more."""
+    level = many.bit_length() - 1
+    places = range(2 ** level)
+    return sorted(
+        tuple(depth for place in places for depth in ((level + 1,) * 2 if place in parted else (level,)))
+        for parted in itertools.combinations(places, many - 2 ** level))

@@ -29,21 +29,39 @@ def is_tree(thing, many):
     return awaited == many
 
 
-def depths_of(heaps, tree):
-    """The depths of the heaps in a tree of them, from left to right; or NoTree."""
-    if not is_tree(tree, len(heaps)):
-        raise NoTree(f"no tree of so many heaps: {len(heaps)}")
-    depths = []
-    waiting = [(tree, 0)]
+def must_be_tree(thing, many):
+    """Refuses with NoTree what is no tree of so many heaps."""
+    # The text does not tell how many: Python refuses to write out a very great number.
+    if not is_tree(thing, many):
+        raise NoTree("no tree of so many heaps")
+
+
+def parts_with_words(tree):
+    """All parts of a tree, each ahead of its own ones, the left one's ahead of the right one's, with their words.
+
+    A word has a 0 for each left part and a 1 for each right one on the way.
+    """
+    told = []
+    waiting = [(tree, "")]
     while waiting:
-        part, depth = waiting.pop()
+        part, word = waiting.pop()
+        told.append((part, word))
         if isinstance(part, tuple):
             left, right = part
-            waiting.append((right, depth + 1))
-            waiting.append((left, depth + 1))
-        else:
-            depths.append(depth)
-    return tuple(depths)
+            waiting.append((right, word + "1"))
+            waiting.append((left, word + "0"))
+    return told
+
+
+def heap_words(tree):
+    """The words of the heaps in a tree, from left to right."""
+    return [word for part, word in parts_with_words(tree) if not isinstance(part, tuple)]
+
+
+def depths_of(heaps, tree):
+    """The depths of the heaps in a tree of them, from left to right; or NoTree."""
+    must_be_tree(tree, len(heaps))
+    return tuple(len(word) for word in heap_words(tree))
 
 
 def cost_of(heaps, tree):

@@ -1,0 +1,1 @@
+"""The least costs, the trees that have them, and what shows it."""
