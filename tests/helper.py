@@ -2,6 +2,7 @@
 
 import contextlib
 import functools
+import heapq
 import itertools
 import random
 import signal
@@ -172,6 +173,27 @@ def many_heaps(many):
     return [heaps for kind in heaps_of_kinds(many).values() for heaps in kind]
 
 
+def heaps_in_patterns(many):
+    """Heaps whose weights follow one another in a pattern."""
+    chance = random.Random(3000 + many)
+    sums = [1, 1]
+    while len(sums) < many:
+        sums.append(sums[-2] + sums[-1])
+    turns = [tuple((small, great)[(place + first) % 2] for place in range(many))
+             for small, great in ((0, 1), (1, 2), (1, 100), (0, GREATEST)) for first in (0, 1)]
+    bent = []
+    for most in (3, 10, 10 ** 12):
+        for cut in sorted({0, 1, many // 2, many - 1, many}):
+            weights = [chance.randrange(most) for heap in range(many)]
+            bent.append(tuple(sorted(weights[:cut], reverse=True) + sorted(weights[cut:])))
+            bent.append(tuple(sorted(weights[:cut]) + sorted(weights[cut:], reverse=True)))
+    return [tuple(sums[:many]), tuple(sums[:many][::-1])] + turns + bent
+
+
+def every_heaps(many):
+    return many_heaps(many) + heaps_in_patterns(many)
+
+
 @functools.lru_cache(maxsize=None)
 def trees_with_depths(many):
     """All trees of so many heaps, each behind its depths, in the order of these."""
@@ -214,6 +236,14 @@ def cost_by_steps(heaps):
     return cost
 
 
+@functools.lru_cache(maxsize=None)
+def least_down(heaps):
+    """The least cost from the root down: good for many heaps, too."""
+    if len(heaps) == 1:
+        return 0
+    return sum(heaps) + min(least_down(heaps[:cut]) + least_down(heaps[cut:]) for cut in range(1, len(heaps)))
+
+
 def stretch_cost(heaps, first, last):
     return cost_by_steps(heaps[first:last + 1])
 
@@ -241,6 +271,33 @@ def depths_down(tree, depth=0):
     return (depth,)
 
 
+@functools.lru_cache(maxsize=None)
+def within_down(heaps, bound):
+    """The least cost with a bound on depth and the first depths with it, from the root down; None without any."""
+    if len(heaps) == 1:
+        return 0, (0,)
+    if bound == 0:
+        return None
+    found = []
+    for cut in range(1, len(heaps)):
+        left, right = within_down(heaps[:cut], bound - 1), within_down(heaps[cut:], bound - 1)
+        if left and right:
+            found.append((left[0] + right[0] + sum(heaps), tuple(depth + 1 for depth in left[1] + right[1])))
+    return min(found, default=None)
+
+
+def slow_within(heaps, bound):
+    """The least cost of all trees that go no deeper, and the first of these by its depths; None without any."""
+    within = [(cost, tree) for cost, (depths, tree) in zip(costs_one_by_one(heaps), trees_with_depths(len(heaps)))
+              if max(depths) <= bound]
+    least = min((cost for cost, tree in within), default=None)
+    return next((pair for pair in within if pair[0] == least), None)
+
+
+def all_rows(many, weights):
+    return list(itertools.product(weights, repeat=many))
+
+
 def alike_depths(many):
     """In order the depths of all cheapest trees of heaps that weigh alike, but not nought: a full level of places,
     some of which are parted once more."""
@@ -249,3 +306,50 @@ def alike_depths(many):
     return sorted(
         tuple(depth for place in places for depth in ((level + 1,) * 2 if place in parted else (level,)))
         for parted in itertools.combinations(places, many - 2 ** level))
+
+
+def slow_step(row):
+    """One step over a row of pairs (weight, heaps in it), as the document tells it: the triple, and the row behind it."""
+    weights = [weight for weight, gone_in in row]
+    k = min(k for k in range(1, len(row)) if k == len(row) - 1 or weights[k - 1] <= weights[k + 1])
+    together = weights[k - 1] + weights[k]
+    not_less = [place for place in range(k - 1) if weights[place] >= together]
+    place = max(not_less) + 1 if not_less else 0
+    rest = row[:k - 1] + row[k + 1:]
+    joined = (together, row[k - 1][1] + row[k][1])
+    return (k, together, place), rest[:place] + [joined] + rest[place:]
+
+
+def slow_steps(heaps):
+    """The steps and the depths."""
+    row = [(weight, [place]) for place, weight in enumerate(heaps)]
+    steps, sums = [], []
+    while len(row) > 1:
+        before = [gone_in for weight, gone_in in row]
+        step, row = slow_step(row)
+        steps.append(step)
+        sums += [gone_in for weight, gone_in in row if gone_in not in before]
+    depths = tuple(sum(place in gone_in for gone_in in sums) for place in range(len(heaps)))
+    return tuple(steps), depths
+
+
+def by_a_queue(heaps):
+    """The least cost by always joining the two lightest ones: good for many heaps, too."""
+    queue = list(heaps)
+    heapq.heapify(queue)
+    cost = 0
+    while len(queue) > 1:
+        together = heapq.heappop(queue) + heapq.heappop(queue)
+        heapq.heappush(queue, together)
+        cost += together
+    return cost
+
+
+def turned(heaps, place):
+    return heaps[place:] + heaps[:place]
+
+
+def ring_by_all_cuts(heaps, cost):
+    """The least cost of all cuts, and the first place with it."""
+    costs = [cost(turned(heaps, place)) for place in range(len(heaps))]
+    return min(costs), costs.index(min(costs))

@@ -26,6 +26,11 @@ def read_heaps(text):
     return tuple(weights)
 
 
+def in_one_row(numbers):
+    """Numbers written in one row."""
+    return " ".join(str(number) for number in numbers)
+
+
 def heaps_shown(heaps):
     """The text that writes these heaps."""
-    return " ".join(str(weight) for weight in heaps)
+    return in_one_row(heaps)

@@ -1,0 +1,1 @@
+"""The least cost by another way, and where the heaps are joined otherwise."""
