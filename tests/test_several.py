@@ -35,6 +35,23 @@ def by_all_cuts(row, most):
     return min(found)
 
 
+@functools.lru_cache(maxsize=None)
+def parted_down(row, many, most):
+    """The best of all ways to join a row to just so many heaps, from the root down: good for many heaps, too."""
+    if len(row) < many:
+        return None
+    if many == 1:
+        if len(row) == 1:
+            return 0, 0
+        cost, joins = min(filter(None, (parted_down(row, parts, most) for parts in range(2, most + 1))))
+        return cost + sum(row), joins + 1
+    found = []
+    for cut in range(1, len(row) - many + 2):
+        one, others = parted_down(row[-cut:], 1, most), parted_down(row[:-cut], many - 1, most)
+        found.append((one[0] + others[0], one[1] + others[1]))
+    return min(found)
+
+
 def fewest_joins(many, most):
     return -((1 - many) // (most - 1))
 
@@ -91,6 +108,12 @@ class BySeveral(unittest.TestCase):
             for heaps in every_heaps(many)[::6]:
                 for most in range(2, 7):
                     self.assertEqual(cost_by_several(heaps, most), by_all_cuts(heaps, most), (heaps, most))
+
+    def test_up_to_24_heaps_by_another_way(self):
+        for many in (11, 16, 21, 24):
+            for heaps in every_heaps(many)[::7]:
+                for most in (3, 4, 5, 6):
+                    self.assertEqual(cost_by_several(heaps, most), parted_down(heaps, 1, most), (heaps, most))
 
     def test_two_at_a_time(self):
         for many in range(1, 25):
